@@ -128,6 +128,11 @@ func held(blocks [][]byte) [][]byte {
 	return list
 }
 
+// butHead leaves the head alone out of blocks: what is left is the same behind Open as Look answers it.
+func butHead(blocks [][]byte) [][]byte {
+	return slices.Delete(slices.Clone(blocks), 1, 2)
+}
+
 // over are blocks with writes put over them.
 func over(blocks [][]byte, list ...api.Write) [][]byte {
 	blocks = slices.Clone(blocks)
@@ -315,7 +320,7 @@ func TestHeads(t *testing.T) {
 				t.Fatalf("Look at %d, %d", at, seq)
 			}
 			j := opened(t, d)
-			if j.Head() != head(at, seq) || !same(held(all(t, d)), held(before)) {
+			if j.Head() != head(at, seq) || !same(butHead(all(t, d)), butHead(before)) {
 				t.Fatalf("Open at %d, %d: %v", at, seq, j.Head())
 			}
 			told(t, d, j)
@@ -366,7 +371,7 @@ func sees(t *testing.T, d *disk.Disk, done []api.Write, h api.Head) {
 	told(t, d, j)
 	for range 2 {
 		lasts(t, d)
-		if got := all(t, d); !same(held(got), held(want)) || !same(held(looked(t, d)), held(want)) {
+		if got := all(t, d); !same(butHead(got), butHead(want)) || !same(butHead(looked(t, d)), butHead(want)) {
 			t.Fatal("Open is not what Look says")
 		}
 		if again := opened(t, d); again.Head() != h {
@@ -472,7 +477,7 @@ func TestOpenMakesLast(t *testing.T) {
 	want := looked(t, d)
 	opened(t, d)
 	lasts(t, d)
-	if !same(held(all(t, d)), held(want)) {
+	if !same(butHead(all(t, d)), butHead(want)) {
 		t.Fatal("Open is not what Look says")
 	}
 }
@@ -503,6 +508,75 @@ func TestOpenMakesTheLogLastFirst(t *testing.T) {
 		}
 	}
 	t.Fatal("Open has no end")
+}
+
+// lie are blocks that may lie in a log: of bytes, and of first and last ones of a number near this one.
+func lie(t *testing.T, seq int) [][]byte {
+	t.Helper()
+	list := [][]byte{append([]byte{1}, make([]byte, 63)...), bytes.Repeat([]byte{200}, 64), filled(77), headOf(t, head(0, seq))}
+	for _, n := range []int{seq - 1, seq, seq + 1} {
+		list = append(list, firstOf(t, n, 63), firstOf(t, n, places(64)[2:22]...), lastOf(t, n, 1), lastOf(t, n, 20))
+	}
+	return list
+}
+
+// P16.1: the block of the log at which the head stands, and those about it, are behind Open as Look answers them, whatever they are.
+func TestOpenLeavesTheLog(t *testing.T) {
+	for _, h := range []api.Head{head(0, 2), head(7, 5), head(38, 1<<30-2), head(39, 1<<30-1)} {
+		for _, b := range lie(t, h.Seq) {
+			for _, at := range []int{h.At, (h.At + 1) % 40, (h.At + 39) % 40} {
+				d := ready(t, 64, h)
+				lay(t, d, api.Write{At: 19 + at, Data: b})
+				settle(t, d)
+				sees(t, d, nil, h)
+				if got, e := opened(t, d).Read(19 + at); e != api.OK || !bytes.Equal(got, b) {
+					t.Fatalf("block %d of the log, head %v: %v %d, not %v", at, h, got, e, b)
+				}
+				openLosses(t, d, nil)
+			}
+			d := ready(t, 64, h)
+			for n := 19; n < 59; n++ {
+				lay(t, d, api.Write{At: n, Data: b})
+			}
+			sees(t, d, nil, h)
+		}
+	}
+}
+
+// P16.1: Open writes nothing but what Look answers, and the Head, wherever the power goes in it.
+func TestOpenWritesNothingElse(t *testing.T) {
+	const steps = 40
+	list := some(64, 5, 9)
+	ends := 0
+	for after := range steps {
+		for _, laid := range [][]api.Write{nil, transaction(t, head(37, 4), list...)} {
+			d := ready(t, 64, head(37, 4))
+			for n := 19; n < 59; n++ {
+				lay(t, d, api.Write{At: n, Data: firstOf(t, 5, 63)})
+			}
+			lay(t, d, laid...)
+			settle(t, d)
+			before, want := all(t, d), looked(t, d)
+			d.Fail(after)
+			if _, e := Open(d); e == api.OK {
+				ends++
+			}
+			for n := range 64 {
+				if n != 1 && d.Open(n) > 0 && bytes.Equal(want[n], before[n]) {
+					t.Fatalf("behind %d steps block %d is written, which the log does not tell of", after, n)
+				}
+			}
+			d.Restart(slices.Repeat([]int{1}, 64)...)
+			for n, b := range all(t, d) {
+				if n != 1 && !bytes.Equal(b, before[n]) && !bytes.Equal(b, want[n]) {
+					t.Fatalf("behind %d steps block %d is neither what it was nor what Look answers", after, n)
+				}
+			}
+		}
+	}
+	if ends == 0 || ends == 2*steps {
+		t.Fatalf("Open ends %d times", ends)
+	}
 }
 
 // P16.2: commits of each count, at each place of the log, one behind the other: they are written, and last.
@@ -784,25 +858,26 @@ func allOrNone(t *testing.T, d *disk.Disk, deep bool, list []api.Write, visit fu
 	kinds := map[bool]int{}
 	losses(t, d, committing(t, list), func(c *disk.Disk) {
 		t.Helper()
-		want := held(looked(t, c))
-		if !same(want, before) && !same(want, whole) {
+		look := looked(t, c)
+		if !same(held(look), before) && !same(held(look), whole) {
 			t.Fatal("behind a loss in Commit: neither all nor none")
 		}
-		kinds[same(want, whole)]++
+		kinds[same(held(look), whole)]++
+		want := butHead(look)
 		if deep {
 			losses(t, c, opening, func(c *disk.Disk) {
 				t.Helper()
-				if !same(held(looked(t, c)), want) {
+				if !same(butHead(looked(t, c)), want) {
 					t.Fatal("behind a loss in Open: something else")
 				}
 				opened(t, c)
-				if !same(held(all(t, c)), want) {
+				if !same(butHead(all(t, c)), want) {
 					t.Fatal("behind a loss in Open, and Open: something else")
 				}
 			})
 		}
 		told(t, c, opened(t, c))
-		if !same(held(all(t, c)), want) {
+		if !same(butHead(all(t, c)), want) {
 			t.Fatal("Open is not what Look says")
 		}
 		lasts(t, c)
@@ -856,14 +931,14 @@ func TestLossBehindLoss(t *testing.T) {
 func openLosses(t *testing.T, d *disk.Disk, done []api.Write) {
 	t.Helper()
 	settle(t, d)
-	want := held(over(all(t, d), done...))
+	want := butHead(over(all(t, d), done...))
 	losses(t, d, opening, func(c *disk.Disk) {
 		t.Helper()
-		if !same(held(looked(t, c)), want) {
+		if !same(butHead(looked(t, c)), want) {
 			t.Fatal("behind a loss in Open: something else")
 		}
 		j := opened(t, c)
-		if !same(held(all(t, c)), want) {
+		if !same(butHead(all(t, c)), want) {
 			t.Fatal("behind a loss in Open, and Open: something else")
 		}
 		next := held(over(all(t, c), some(64, 20, 3)...))
@@ -971,7 +1046,7 @@ func TestBlocksLikeALastBlock(t *testing.T) {
 // P16.3: first blocks that lay in the log at first; a commit's blocks look like their last ones.
 func TestFirstBlocksLeft(t *testing.T) {
 	for left := 1; left <= 5; left++ {
-		for count := left + 1; count <= 6; count++ {
+		for count := left; count <= 6; count++ {
 			d := ready(t, 64, head(38, 6))
 			for seq := 6; seq < 12; seq++ {
 				for n := range 40 {
@@ -983,7 +1058,9 @@ func TestFirstBlocksLeft(t *testing.T) {
 			lay(t, d, api.Write{At: 19 + 38, Data: firstOf(t, 6, places(64)[7:7+left]...)})
 			settle(t, d)
 			list := some(64, count, 3)
-			list[left].Data = lastOf(t, 6, left)
+			if count > left {
+				list[left].Data = lastOf(t, 6, left)
+			}
 			allOrNone(t, d, count < 4, list, nil)
 		}
 	}
@@ -1042,17 +1119,23 @@ func reopened(t *testing.T, d *disk.Disk, next func(int) int) *Journal {
 
 // P16.3: long rows of commits, with losses anywhere, and blocks that look like a log's.
 func TestHistory(t *testing.T) {
-	for seed := range 60 {
+	for seed := range 120 {
 		next := numbers(uint32(seed))
 		h := head(next(40), 1+next(3))
 		d := ready(t, 64, h)
 		for n := 19; n < 59; n++ {
-			if next(2) == 0 {
+			switch next(3) {
+			case 0:
 				lay(t, d, api.Write{At: n, Data: firstOf(t, h.Seq+next(9), places(64)[5:6+next(3)]...)})
+			case 1:
+				lay(t, d, api.Write{At: n, Data: filled(n)})
 			}
 		}
+		if seed%2 == 0 {
+			lay(t, d, api.Write{At: 19 + h.At, Data: firstOf(t, h.Seq, places(64)[5:6+next(3)]...)})
+		}
 		settle(t, d)
-		j := opened(t, d)
+		j := reopened(t, d, next)
 		want := held(all(t, d))
 		for i := range 150 {
 			count := 1 + next(1+next(20))
@@ -1077,7 +1160,11 @@ func TestHistory(t *testing.T) {
 			}
 			if e != api.OK || next(4) == 0 {
 				d.Restart(someKeep(next)...)
+				look := looked(t, d)
 				j = reopened(t, d, next)
+				if !same(butHead(all(t, d)), butHead(look)) {
+					t.Fatalf("row %d, commit %d: Open is not what Look says", seed, i)
+				}
 			}
 			got := held(all(t, d))
 			if e == api.ErrPower && same(got, whole) {
